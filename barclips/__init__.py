@@ -1,0 +1,1 @@
+"""Barclips: clips that begin at the bar."""

@@ -1,0 +1,35 @@
+"""The examples of the document's interface section, as they stand there, and those of README.md."""
+
+import doctest
+import pathlib
+import unittest
+
+EXAMPLES = {
+    "barclips/grids.py": """
+>>> from barclips.grids import Grid
+>>> (17 // Grid(8, 3), str(Grid(6, 1) & Grid(4, 3)))
+(1, '12+7')
+""",
+    "barclips/gaps.py": """
+>>> from barclips.grids import Grid
+>>> from barclips.gaps import cycle_of
+>>> cycle_of([Grid(2), Grid(4, 1), Grid(4, 3)])
+[0, 1, 0, 2]
+""",
+    "README.md": (pathlib.Path(__file__).parent.parent / "README.md").read_text(encoding="utf-8"),
+}
+
+
+class ExampleTests(unittest.TestCase):
+    def test_examples(self):
+        for name, text in EXAMPLES.items():
+            with self.subTest(name):
+                example = doctest.DocTestParser().get_doctest(text, {}, name, name, 0)
+                self.assertTrue(example.examples)
+                report = []
+                result = doctest.DocTestRunner(verbose=False).run(example, out=report.append)
+                self.assertEqual(result.failed, 0, "".join(report))
+
+
+if __name__ == "__main__":
+    unittest.main()
