@@ -8,10 +8,11 @@ from barclips.grids import Grid
 
 
 def signed_commons(grids):
-    """Return a list of tuples (sign, grid) whose signs at each integer add up to 1 at a gap, else 0.
+    """Return tuples (sign, grid) with which gaps are counted.
 
     There is a tuple for each choice of grids that have a common tick: the grid of their common
-    ticks, with the sign 1 if their number is even and -1 if it is odd.
+    ticks, with the sign 1 for an even number of grids and -1 for an odd one. The signs of those
+    that contain an integer add up to 1 if it is a gap of the list, and to 0 otherwise.
     """
     chosen = [(1, Grid(1))]
     for grid in grids:
@@ -56,8 +57,8 @@ def nth_gap(grids, start, count):
     gaps, cycle = share_of(signed)
     if gaps == 0:
         return None
-    # Each grid's ticks among n integers in a row are fewer than one away from n / step. So the
-    # number of gaps among them is less than `slack` away from n * gaps / cycle.
+    # Among n integers in a row, the number of ticks of a grid is less than 1 away from n / step.
+    # So the number of gaps among them is less than `slack` away from n * gaps / cycle.
     slack = len(signed)
     low = start + max(0, count - slack) * cycle // gaps
     high = start + (count + slack) * cycle // gaps + 1

@@ -3,6 +3,7 @@
 import unittest
 from math import lcm
 
+from barclips.errors import TooMany
 from barclips.grids import Grid
 
 FAR = 10**399
@@ -121,6 +122,32 @@ class GridTests(unittest.TestCase):
         for name, value in values.items():
             self.assertEqual(state(getattr(caught.exception, name)), state(value))
         self.assertEqual([state(thing) for thing in things], before)
+
+
+class ListPromises:
+    """Point 8, for a test case whose `calls` are functions of a list of grids."""
+
+    calls = ()
+
+    def test_more_grids_are_refused(self):
+        for count in (7, 8, 20, 1000):
+            for grids in ([Grid(2)] * count, (Grid(1),) * count, [Grid(FAR + at) for at in range(count)]):
+                for call in self.calls:
+                    self.assert_raises_with(TooMany, {"kind": "grids", "most": 6}, call, grids)
+
+    def test_tuples_are_taken(self):
+        for grids in small_lists():
+            for call in self.calls:
+                self.assertEqual(call(tuple(grids)), call(grids))
+
+    def test_arguments_are_unchanged(self):
+        for grids in small_lists():
+            items, shapes = list(grids), pairs(grids)
+            for call in self.calls:
+                call(grids)
+            self.assertEqual(len(grids), len(items))
+            self.assertTrue(all(grid is item for grid, item in zip(grids, items)))
+            self.assertEqual(pairs(grids), shapes)
 
 
 def state(value):

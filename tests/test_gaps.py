@@ -2,11 +2,10 @@
 
 import unittest
 
-from barclips.errors import TooMany
 from barclips.gaps import cycle_of, first_gap, needless
 from barclips.grids import Grid
 from tests.helpers import (
-    FAR, GridTests, covers, gaps_of, gappy_lists, halves, holds, is_gap, lists_with_one_left_out, pairs,
+    FAR, GridTests, ListPromises, covers, gaps_of, gappy_lists, halves, holds, is_gap, lists_with_one_left_out,
     period_of, small_lists,
 )
 
@@ -17,7 +16,7 @@ def moved(grids, ticks):
     return [Grid(grid.step, grid.offset + ticks) for grid in grids]
 
 
-class ListTests(GridTests):
+class ListTests(ListPromises, GridTests):
     """Point 8, for the three functions of barclips/gaps.py."""
 
     calls = (lambda grids: first_gap(grids, 5), cycle_of, needless)
@@ -25,26 +24,6 @@ class ListTests(GridTests):
     def test_six_grids_are_taken(self):
         grids = [Grid(2)] * 6
         self.assertEqual([call(grids) for call in self.calls], [5, None, [0, 1, 2, 3, 4, 5]])
-
-    def test_more_grids_are_refused(self):
-        for count in (7, 8, 20, 1000):
-            for grids in ([Grid(2)] * count, (Grid(1),) * count, [Grid(FAR + at) for at in range(count)]):
-                for call in self.calls:
-                    self.assert_raises_with(TooMany, {"kind": "grids", "most": 6}, call, grids)
-
-    def test_tuples_are_taken(self):
-        for grids in small_lists():
-            for call in self.calls:
-                self.assertEqual(call(tuple(grids)), call(grids))
-
-    def test_arguments_are_unchanged(self):
-        for grids in small_lists():
-            items, shapes = list(grids), pairs(grids)
-            for call in self.calls:
-                call(grids)
-            self.assertEqual(len(grids), len(items))
-            self.assertTrue(all(grid is item for grid, item in zip(grids, items)))
-            self.assertEqual(pairs(grids), shapes)
 
     def test_arguments_have_their_names(self):
         grids = [Grid(2), Grid(2, 1)]

@@ -7,7 +7,7 @@ from math import gcd
 from barclips.errors import BadNumber, TooMany
 from barclips.grids import Grid
 from barclips.shares import gap_share, gaps_between, nth_gap
-from tests.helpers import FAR, GridTests, covers, gaps_of, halves, is_gap, pairs, period_of, small_lists
+from tests.helpers import FAR, GridTests, ListPromises, covers, gaps_of, halves, is_gap, period_of, small_lists
 
 LOWS = (-FAR, -1000, -17, -1, 0, 1, 12, 500, FAR - 5)
 COUNTS = (0, 1, 2, 3, 7, 63, 64, 65, 129, 1000, 10**30 + 7, FAR - 1, FAR)
@@ -32,7 +32,7 @@ class Period:
         return number // len(self.gaps) * self.length + self.gaps[number % len(self.gaps)]
 
 
-class ListTests(GridTests):
+class ListTests(ListPromises, GridTests):
     """Point 8, for the three functions of barclips/shares.py."""
 
     calls = (lambda grids: gaps_between(grids, -3, 9), lambda grids: nth_gap(grids, 5, 2), gap_share)
@@ -41,26 +41,8 @@ class ListTests(GridTests):
         grids = [Grid(3, 1)] * 6
         self.assertEqual([call(grids) for call in self.calls], [8, 8, (2, 3)])
 
-    def test_more_grids_are_refused(self):
-        for count in (7, 8, 20, 1000):
-            for grids in ([Grid(2)] * count, (Grid(1),) * count, [Grid(FAR + at) for at in range(count)]):
-                for call in self.calls:
-                    self.assert_raises_with(TooMany, {"kind": "grids", "most": 6}, call, grids)
-                self.assert_raises_with(TooMany, {"kind": "grids"}, gaps_between, grids, 5, 5)
-
-    def test_tuples_are_taken(self):
-        for grids in small_lists():
-            for call in self.calls:
-                self.assertEqual(call(tuple(grids)), call(grids))
-
-    def test_arguments_are_unchanged(self):
-        for grids in small_lists():
-            items, shapes = list(grids), pairs(grids)
-            for call in self.calls:
-                call(grids)
-            self.assertEqual(len(grids), len(items))
-            self.assertTrue(all(grid is item for grid, item in zip(grids, items)))
-            self.assertEqual(pairs(grids), shapes)
+    def test_more_grids_are_refused_without_a_stretch(self):
+        self.assert_raises_with(TooMany, {"kind": "grids", "most": 6}, gaps_between, [Grid(2)] * 7, 5, 5)
 
     def test_arguments_have_their_names(self):
         grids = [Grid(2)]
