@@ -1,5 +1,7 @@
 """Written numbers."""
 
+from barclips.errors import BadWord
+
 MOST_DIGITS = 30
 
 
@@ -9,3 +11,10 @@ def is_number(text):
     if len(text) > MOST_DIGITS or not (text.isascii() and text.isdigit()):
         return False
     return text == "0" or not text.startswith("0")
+
+
+def read_number(word):
+    """Return the number that has this word."""
+    if not is_number(word):
+        raise BadWord(word)
+    return int(word)

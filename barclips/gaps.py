@@ -66,7 +66,16 @@ def needless(grids):
 def is_needless(grids, index):
     """Tell whether all ticks of the grid at this index are on grids at other indexes."""
     others = [grid for at, grid in enumerate(grids) if at != index]
+    return first_gap_on(grids[index], others, 0) is None
+
+
+def first_gap_on(grid, others, start):
+    """Return the least tick of the grid, not less than start, that is a gap of the others, or None."""
+    first = grid.number_of(grid.at_or_after(start))
     # The numbers of the ticks that are on another grid form a grid, or there are none. So the
     # k other grids contain every tick if they contain those of 2^k numbers in a row.
-    ticks = [grids[index].tick_of(number) for number in range(1 << len(others))]
-    return not any([is_gap(others, tick) for tick in ticks])
+    for number in range(first, first + (1 << len(others))):
+        tick = grid.tick_of(number)
+        if is_gap(others, tick):
+            return tick
+    return None

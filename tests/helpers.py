@@ -152,8 +152,8 @@ class ListPromises:
 
 def state(value):
     """A value that changes if the given one is changed."""
-    if isinstance(value, Grid):
-        return ("grid", sorted(vars(value).items()))
     if isinstance(value, (list, tuple)):
         return (type(value).__name__, [state(item) for item in value])
+    if type(value).__module__.startswith("barclips."):
+        return (type(value).__name__, [(name, state(worth)) for name, worth in sorted(vars(value).items())])
     return value

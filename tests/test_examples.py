@@ -16,6 +16,12 @@ EXAMPLES = {
 >>> cycle_of([Grid(2), Grid(4, 1), Grid(4, 3)])
 [0, 1, 0, 2]
 """,
+    "barclips/sounds.py": """
+>>> from barclips.grids import Grid
+>>> from barclips.sounds import Clip
+>>> Clip("fill", grid=Grid(16, 8), length=16, rounds=2, guards=(0, 12)).words()
+['fill', '16+8', '16', 'rounds', '2', 'guards', '0', '12']
+""",
     "README.md": (pathlib.Path(__file__).parent.parent / "README.md").read_text(encoding="utf-8"),
 }
 

@@ -15,6 +15,9 @@ FUNCTIONS = {
         "nth_gap": "(grids, start, count)",
         "gap_share": "(grids)",
     },
+    "barclips.partings": {
+        "parting": "(first, second, start)",
+    },
 }
 CLASSES = {
     "barclips.errors": {
@@ -49,17 +52,60 @@ CLASSES = {
             "read": "(cls, word)",
         },
     },
+    "barclips.sounds": {
+        "Sound": {"__init__": "(self, name, grid)", "words": "(self)"},
+        "Clip": {"__init__": "(self, name, *, grid, length, rounds=1, guards=())", "words": "(self)"},
+        "Lead": {"__init__": "(self, name, *, grid, length, stops=())", "words": "(self)"},
+    },
+    "barclips.tracks": {
+        "Track": {
+            "__init__": "(self, name, *clips)",
+            "start_of": "(self, name)",
+            "clip_of": "(self, name)",
+            "place_of": "(self, name, turn, step)",
+            "where": "(self, place)",
+        },
+    },
+    "barclips.stages": {
+        "Stage": {
+            "__init__": "(self, tracks, leads=())",
+            "find_track": "(self, name)",
+            "find_lead": "(self, name)",
+            "find_clip": "(self, name)",
+            "track_with": "(self, name)",
+            "recorded": "(self, name, length)",
+            "without": "(self, *names)",
+            "write": "(self)",
+            "read": "(cls, text)",
+        },
+    },
 }
 OPERATORS = {
     "barclips.grids.Grid": [
         "__str__", "__add__", "__radd__", "__sub__", "__mul__", "__rmul__", "__floordiv__", "__rfloordiv__",
         "__rmod__", "__and__", "__eq__", "__contains__",
     ],
+    "barclips.tracks.Track": ["__iter__", "__contains__"],
+}
+PROPERTIES = {
+    "barclips.sounds.Clip": ["span"],
+    "barclips.tracks.Track": ["empty"],
+}
+CLASS_VALUES = {
+    "barclips.sounds.Clip": {"ROUNDS": 4},
+    "barclips.sounds.Lead": {"PATIENCE": 64},
+    "barclips.tracks.Track": {"CLIPS": 3},
+    "barclips.stages.Stage": {"TRACKS": 6, "LEADS": 4, "CLIPS": 8, "GUARDS": 6},
 }
 
 
 def plain(member):
     return member.__func__ if isinstance(member, (staticmethod, classmethod)) else member
+
+
+def class_at(place):
+    module_name, _, name = place.rpartition(".")
+    return getattr(importlib.import_module(module_name), name)
 
 
 class InterfaceTests(unittest.TestCase):
@@ -84,16 +130,31 @@ class InterfaceTests(unittest.TestCase):
 
     def test_operators_are_defined_in_their_classes(self):
         for place, operators in OPERATORS.items():
-            module_name, _, name = place.rpartition(".")
-            owner = getattr(importlib.import_module(module_name), name)
             for operator in operators:
-                with self.subTest(name, operator=operator):
-                    self.assertTrue(callable(vars(owner)[operator]))
+                with self.subTest(place, operator=operator):
+                    self.assertTrue(callable(vars(class_at(place))[operator]))
+
+    def test_properties_and_class_values_are_defined_in_their_classes(self):
+        for place, names in PROPERTIES.items():
+            for name in names:
+                with self.subTest(place, name=name):
+                    self.assertIsInstance(vars(class_at(place))[name], property)
+        for place, values in CLASS_VALUES.items():
+            for name, value in values.items():
+                with self.subTest(place, name=name):
+                    self.assertEqual(vars(class_at(place))[name], value)
 
     def test_kinds_of_methods(self):
-        grid = importlib.import_module("barclips.grids").Grid
+        grid, stage = class_at("barclips.grids.Grid"), class_at("barclips.stages.Stage")
         self.assertIsInstance(vars(grid)["common"], staticmethod)
         self.assertIsInstance(vars(grid)["read"], classmethod)
+        self.assertIsInstance(vars(stage)["read"], classmethod)
+
+    def test_base_classes(self):
+        for place, base in (
+            ("barclips.sounds.Clip", "barclips.sounds.Sound"), ("barclips.sounds.Lead", "barclips.sounds.Sound"),
+        ):
+            self.assertEqual(class_at(place).__bases__, (class_at(base),))
 
 
 if __name__ == "__main__":

@@ -1,6 +1,7 @@
 """Those rules of the program's Python subset that a short look at the files can check."""
 
 import ast
+import builtins
 import pathlib
 import unittest
 
@@ -17,6 +18,10 @@ DECORATORS = {"staticmethod", "classmethod", "property"}
 BARRED = (
     ast.Global, ast.AsyncFunctionDef, ast.AsyncFor, ast.AsyncWith, ast.Await, ast.Div, ast.Import, ast.GeneratorExp,
 )
+# An example that is run by doctest leaves its last value in `_`.
+BUILTINS = set(dir(builtins)) - {"_"}
+# Names that stand nowhere, not even as methods or attributes.
+UNUSED = {"register", "mro", "elements", "open", "input", "law", "version_info", "with_traceback", "add_note"}
 
 
 def files():
@@ -25,6 +30,32 @@ def files():
 
 def nodes(path):
     return list(ast.walk(ast.parse(path.read_text(encoding="utf-8"))))
+
+
+def imports(path):
+    """The names that a file imports, with the modules they come from."""
+    return {
+        alias.name: node.module for node in nodes(path) if isinstance(node, ast.ImportFrom) for alias in node.names
+    }
+
+
+def defined(path):
+    """The functions, classes and values at the module level of a file."""
+    names = []
+    for node in ast.parse(path.read_text(encoding="utf-8")).body:
+        if isinstance(node, (ast.FunctionDef, ast.ClassDef)):
+            names.append(node.name)
+        elif isinstance(node, ast.Assign):
+            names.extend(target.id for target in node.targets)
+    return names
+
+
+def assigned(path):
+    """The parameters of a file, and the names that are assigned to in it."""
+    names = {node.arg for node in nodes(path) if isinstance(node, ast.arg)}
+    return names | {
+        node.id for node in nodes(path) if isinstance(node, ast.Name) and not isinstance(node.ctx, ast.Load)
+    }
 
 
 class LanguageTests(unittest.TestCase):
@@ -56,6 +87,30 @@ class LanguageTests(unittest.TestCase):
                     self.assertTrue(node.module in names or allowed, (path, node.module))
                     for alias in node.names:
                         self.assertTrue(allowed is None or alias.name in allowed, (path, alias.name))
+
+    def test_imports_name_the_file_that_defines_the_name(self):
+        for path in files():
+            for name, module in imports(path).items():
+                if module not in LIBRARY:
+                    self.assertIn(name, defined(PACKAGE / (module.rpartition(".")[2] + ".py")), path)
+
+    def test_no_two_files_import_each_other(self):
+        needed = {path.stem: {module.rpartition(".")[2] for module in imports(path).values()} for path in files()}
+        while needed:
+            free = [name for name, others in needed.items() if not others & set(needed)]
+            self.assertTrue(free, sorted(needed))
+            for name in free:
+                del needed[name]
+
+    def test_names(self):
+        for path in files():
+            classes = {node.name for node in nodes(path) if isinstance(node, ast.ClassDef)}
+            names = assigned(path)
+            self.assertFalse(names & (classes | set(imports(path)) | BUILTINS), path)
+            self.assertFalse(set(defined(path)) & BUILTINS, path)
+            self.assertEqual(len(set(defined(path))), len(defined(path)), path)
+            named = names | {node.attr for node in nodes(path) if isinstance(node, ast.Attribute)}
+            self.assertFalse((named | set(defined(path))) & UNUSED, path)
 
     def test_barred_statements_and_expressions(self):
         for path in files():
