@@ -18,6 +18,27 @@ FUNCTIONS = {
     "barclips.partings": {
         "parting": "(first, second, start)",
     },
+    "barclips.settings": {
+        "check_setting": "(stage, setting)",
+        "playing": "(stage, setting, tick)",
+        "closers": "(stage, setting, tick)",
+        "moved": "(setting, ticks)",
+        "same_sound": "(stage, first, second)",
+    },
+    "barclips.bars": {
+        "closings": "(stage, lead, setting)",
+        "verdict": "(stage, lead, setting, since)",
+        "walk": "(stage, lead, setting, since, count)",
+    },
+    "barclips.counts": {
+        "open_between": "(stage, lead, setting, low, high)",
+        "nth_open": "(stage, lead, setting, since, count)",
+        "open_share": "(stage, lead, setting)",
+        "bar_parting": "(stage, lead, first, second, since)",
+    },
+    "barclips.ways": {
+        "ways": "(stage, lead, bar)",
+    },
 }
 CLASSES = {
     "barclips.errors": {
@@ -79,6 +100,12 @@ CLASSES = {
             "read": "(cls, text)",
         },
     },
+    "barclips.bars": {
+        "Verdict": {"line": "(self)"},
+        "Opening": {"line": "(self)"},
+        "Lockout": {"line": "(self)"},
+        "Gate": {"__init__": "(self, stage, lead)", "__call__": "(self, setting, tick)"},
+    },
 }
 OPERATORS = {
     "barclips.grids.Grid": [
@@ -86,6 +113,7 @@ OPERATORS = {
         "__rmod__", "__and__", "__eq__", "__contains__",
     ],
     "barclips.tracks.Track": ["__iter__", "__contains__"],
+    "barclips.bars.Verdict": ["__bool__"],
 }
 PROPERTIES = {
     "barclips.sounds.Clip": ["span"],
@@ -153,6 +181,7 @@ class InterfaceTests(unittest.TestCase):
     def test_base_classes(self):
         for place, base in (
             ("barclips.sounds.Clip", "barclips.sounds.Sound"), ("barclips.sounds.Lead", "barclips.sounds.Sound"),
+            ("barclips.bars.Opening", "barclips.bars.Verdict"), ("barclips.bars.Lockout", "barclips.bars.Verdict"),
         ):
             self.assertEqual(class_at(place).__bases__, (class_at(base),))
 
