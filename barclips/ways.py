@@ -6,13 +6,30 @@ from barclips.errors import BadNumber
 from barclips.grids import Grid
 
 
-def first_bars(track, place, clip, ticks):
-    """Return the grid of the ticks of first bars from which the track is at the place so many ticks later.
+def moments_of(track, place, clip):
+    """Return the grid of the ticks at which the track may be at the place if its entry names the clip.
 
-    The entry of the track names the clip, and its tick may be any one of the clip's launch grid.
+    The tick of the entry may be any one of the clip's launch grid.
     """
-    begin = (place - ticks) % track.period
-    return Grid(gcd(track.period, clip.grid.step), begin - track.start_of(clip.name) + clip.grid.offset)
+    return Grid(gcd(track.period, clip.grid.step), place - track.start_of(clip.name) + clip.grid.offset)
+
+
+def entry_at(track, clip, place, tick):
+    """Return an entry that names the clip, with the track at the place at this one of its moments."""
+    entered = Grid(track.period, track.start_of(clip.name) + tick - place) & clip.grid
+    return (clip.name, entered.offset)
+
+
+def ways_to_close(stage, bars, ticks):
+    """Return the ways to close the bar that comes so many ticks after the first one."""
+    found = []
+    for track in stage.tracks:
+        for place in track.places:
+            for clip in track.clips:
+                moments = Grid.common(moments_of(track, place - ticks, clip), bars)
+                if moments is not None:
+                    found.append((track.name, place, clip.name, moments))
+    return found
 
 
 def ways(stage, lead, bar):
@@ -20,11 +37,4 @@ def ways(stage, lead, bar):
     bars = stage.find_lead(lead).grid
     if bar < 0:
         raise BadNumber(bar)
-    found = []
-    for track in stage.tracks:
-        for place in track.places:
-            for clip in track.clips:
-                moments = Grid.common(first_bars(track, place, clip, bar * bars.step), bars)
-                if moments is not None:
-                    found.append((track.name, place, clip.name, moments))
-    return found
+    return ways_to_close(stage, bars, bar * bars.step)

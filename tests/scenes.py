@@ -217,3 +217,56 @@ class Bars:
             if all(closer in self.closed_by(number) for number in numbers):
                 return closer
         return None
+
+
+def limits(*lengths, first=0):
+    """A stage at its limits: six tracks, eight clips and six guards, with clips of these lengths on a grid of 2.
+
+    The guarded step is the first one. The tracks after index `first` have a second clip.
+    """
+    tracks = []
+    for at, length in enumerate(lengths):
+        if at in (first, first + 1):
+            clips = [clip(f"c{at}", "2", length // 2, 1, [0]), clip(f"d{at}", "4+2", length - length // 2)]
+        else:
+            clips = [clip(f"c{at}", "2", length, 1, [0])]
+        tracks.append(Track(f"t{at}", *clips))
+    return Stage(tracks, [lead("horn", "2"), lead("pipe", "2+1"), lead("bell", "6")])
+
+
+def drawn_track(numbers, at, guards):
+    """A small track with at most so many guards, the rounds counted."""
+    clips = []
+    for index in range(numbers.choice((1, 1, 2, 3)) if at < 2 else 1):
+        length, rounds = numbers.choice((1, 2, 2, 3, 4, 6, 8)), numbers.choice((1, 1, 1, 2))
+        many = min(numbers.choice((0, 1, 1, 2)), length, guards // rounds)
+        guards -= many * rounds
+        clips.append(Clip(
+            f"c{at}x{index}", grid=Grid(numbers.choice((1, 2, 3, 4, 6, 8)), numbers.randrange(-9, 9)),
+            length=length, rounds=rounds, guards=sorted(numbers.sample(range(length), many)),
+        ))
+    return Track(f"t{at}", *clips)
+
+
+def drawn_stage(numbers):
+    """A small stage, some of whose tracks may be empty, with two leads."""
+    tracks, guards = [], 6
+    for at in range(numbers.choice((1, 2, 2, 3, 3, 4))):
+        if numbers.randrange(12) == 0:
+            tracks.append(Track(f"t{at}", clip(f"c{at}x0", "2+1", None)))
+        else:
+            tracks.append(drawn_track(numbers, at, guards))
+        guards -= len(tracks[-1].places)
+    grids = [Grid(numbers.choice((1, 1, 2, 3, 4, 5)), numbers.randrange(-9, 9)) for _ in range(2)]
+    return Stage(tracks, [Lead(name, grid=grid, length=3) for name, grid in zip(("horn", "pipe"), grids)])
+
+
+def drawn(amount, seed):
+    """That many small stages that repeat after at most 120 ticks."""
+    numbers = random.Random(seed)
+    found = []
+    while len(found) < amount:
+        stage = drawn_stage(numbers)
+        if repeat_of(stage) <= 120:
+            found.append(stage)
+    return found

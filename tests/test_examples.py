@@ -22,6 +22,18 @@ EXAMPLES = {
 >>> Clip("fill", grid=Grid(16, 8), length=16, rounds=2, guards=(0, 12)).words()
 ['fill', '16+8', '16', 'rounds', '2', 'guards', '0', '12']
 """,
+    "barclips/waits.py": """
+>>> from barclips.grids import Grid
+>>> from barclips.sounds import Clip, Lead
+>>> from barclips.tracks import Track
+>>> from barclips.stages import Stage
+>>> from barclips.waits import longest
+>>> drums = Track("drums", Clip("kick", grid=Grid(4), length=8, guards=(0,)))
+>>> metal = Track("metal", Clip("hat", grid=Grid(4), length=16, guards=(0,)))
+>>> wait = longest(Stage([drums, metal], [Lead("horn", grid=Grid(4), length=6)]), "horn")
+>>> (wait.bars, wait.tree[1][0])
+(3, ('drums', 0, 'kick', (1, (('metal', 0, 'hat', (3, ())),))))
+""",
     "README.md": (pathlib.Path(__file__).parent.parent / "README.md").read_text(encoding="utf-8"),
 }
 

@@ -39,6 +39,26 @@ FUNCTIONS = {
     "barclips.ways": {
         "ways": "(stage, lead, bar)",
     },
+    "barclips.waits": {
+        "longest": "(stage, lead)",
+        "worst": "(stage, lead, number)",
+    },
+    "barclips.papers": {
+        "check_reach": "(stage, lead, setting, number, bars)",
+        "check_owners": "(stage, lead, setting, owners)",
+        "check_tree": "(stage, lead, tree, *, limit, number=None)",
+    },
+    "barclips.patience": {
+        "swallowing": "(stage, lead, patience)",
+        "enough": "(stage, lead)",
+        "latest": "(stage, lead, tick)",
+        "silence": "(stage, lead, patience)",
+    },
+    "barclips.together": {
+        "together": "(stage, *wishes)",
+        "apart_pair": "(stage, *wishes)",
+        "next_meeting": "(stage, setting, since, *wishes)",
+    },
 }
 CLASSES = {
     "barclips.errors": {
@@ -106,6 +126,8 @@ CLASSES = {
         "Lockout": {"line": "(self)"},
         "Gate": {"__init__": "(self, stage, lead)", "__call__": "(self, setting, tick)"},
     },
+    "barclips.waits": {"Wait": {}},
+    "barclips.together": {"Meeting": {}},
 }
 OPERATORS = {
     "barclips.grids.Grid": [
@@ -118,6 +140,7 @@ OPERATORS = {
 PROPERTIES = {
     "barclips.sounds.Clip": ["span"],
     "barclips.tracks.Track": ["empty"],
+    "barclips.waits.Wait": ["forever"],
 }
 CLASS_VALUES = {
     "barclips.sounds.Clip": {"ROUNDS": 4},
