@@ -34,6 +34,19 @@ EXAMPLES = {
 >>> (wait.bars, wait.tree[1][0])
 (3, ('drums', 0, 'kick', (1, (('metal', 0, 'hat', (3, ())),))))
 """,
+    "barclips/desks.py": """
+>>> from barclips.grids import Grid
+>>> from barclips.sounds import Clip, Lead
+>>> from barclips.tracks import Track
+>>> from barclips.stages import Stage
+>>> from barclips.desks import Desk
+>>> drums = Track("drums", Clip("kick", grid=Grid(4), length=8, guards=(0,)))
+>>> desk = Desk(Stage([drums], [Lead("horn", grid=Grid(4), length=6)]))
+>>> first = desk.press("kick")
+>>> bar = desk.hold("horn")
+>>> desk.advance(8)
+[(4, 'begins', 'kick'), (8, 'begins', 'horn')]
+""",
     "README.md": (pathlib.Path(__file__).parent.parent / "README.md").read_text(encoding="utf-8"),
 }
 

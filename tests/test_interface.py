@@ -59,6 +59,15 @@ FUNCTIONS = {
         "apart_pair": "(stage, *wishes)",
         "next_meeting": "(stage, setting, since, *wishes)",
     },
+    "barclips.records": {
+        "recordings": "(stage, name, lead, most)",
+    },
+    "barclips.deeds": {
+        "perform": "(desk, text)",
+    },
+    "barclips.sheets": {
+        "sheet": "(stage, lead, setting, since, count)",
+    },
 }
 CLASSES = {
     "barclips.errors": {
@@ -128,6 +137,20 @@ CLASSES = {
     },
     "barclips.waits": {"Wait": {}},
     "barclips.together": {"Meeting": {}},
+    "barclips.desks": {
+        "Desk": {
+            "__init__": "(self, stage, now=0)",
+            "press": "(self, name)",
+            "stop": "(self, name)",
+            "hold": "(self, name, patience=None)",
+            "drop": "(self, name)",
+            "arm": "(self, name)",
+            "advance": "(self, ticks)",
+            "go_to": "(self, tick)",
+            "undo": "(self)",
+            "attempt": "(self, deeds)",
+        },
+    },
 }
 OPERATORS = {
     "barclips.grids.Grid": [
@@ -136,11 +159,13 @@ OPERATORS = {
     ],
     "barclips.tracks.Track": ["__iter__", "__contains__"],
     "barclips.bars.Verdict": ["__bool__"],
+    "barclips.desks.Desk": ["__getitem__", "__setitem__", "__contains__", "__iadd__", "__iter__"],
 }
 PROPERTIES = {
     "barclips.sounds.Clip": ["span"],
     "barclips.tracks.Track": ["empty"],
     "barclips.waits.Wait": ["forever"],
+    "barclips.desks.Desk": ["stage", "now", "entries", "waiting", "holds", "armed", "sounding"],
 }
 CLASS_VALUES = {
     "barclips.sounds.Clip": {"ROUNDS": 4},

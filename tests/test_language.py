@@ -2,6 +2,8 @@
 
 import ast
 import builtins
+import functools
+import itertools
 import pathlib
 import unittest
 
@@ -20,6 +22,27 @@ BARRED = (
 )
 # An example that is run by doctest leaves its last value in `_`.
 BUILTINS = set(dir(builtins)) - {"_"}
+ALLOWED_BUILTINS = set("""
+    len range enumerate zip min max sum abs sorted reversed int str bool list tuple dict set isinstance ord repr any all
+    divmod iter super property staticmethod classmethod NotImplemented ValueError TypeError KeyError IndexError
+    LookupError ZeroDivisionError
+""".split())
+METHODS = set("""
+    append clear copy count endswith extend find get index insert isalnum isalpha isdigit islower isspace isupper items
+    join keys ljust lower lstrip partition pop remove replace reverse rfind rjust rpartition rsplit rstrip setdefault
+    split splitlines startswith strip update upper values zfill bit_length isascii add discard
+""".split())
+OPERATORS = {
+    f"__{name}__" for name in """
+    init eq str repr len call iter lt le gt ge ne add radd sub rsub mul rmul floordiv rfloordiv mod rmod and rand or ror
+    iadd isub imul contains getitem setitem bool neg
+    """.split()
+}
+# Words that stand in no file except in comments and docstrings.
+BARRED_WORDS = {
+    "type", "typing", "enum", "Enum", "Flag", "Generic", "Protocol", "ABC", "ABCMeta", "namedtuple", "NamedTuple",
+    "TypedDict", "abstractmethod",
+}
 # Names that stand nowhere, not even as methods or attributes.
 UNUSED = {"register", "mro", "elements", "open", "input", "law", "version_info", "with_traceback", "add_note"}
 
@@ -28,6 +51,7 @@ def files():
     return sorted(path for path in PACKAGE.rglob("*") if path.is_file() and path.suffix != ".pyc")
 
 
+@functools.cache
 def nodes(path):
     return list(ast.walk(ast.parse(path.read_text(encoding="utf-8"))))
 
@@ -56,6 +80,32 @@ def assigned(path):
     return names | {
         node.id for node in nodes(path) if isinstance(node, ast.Name) and not isinstance(node.ctx, ast.Load)
     }
+
+
+def docstrings(path):
+    """The nodes of the docstrings of a file."""
+    owners = [node for node in nodes(path) if isinstance(node, (ast.Module, ast.ClassDef, ast.FunctionDef))]
+    return [owner.body[0].value for owner in owners if owner.body and isinstance(owner.body[0], ast.Expr)]
+
+
+def all_nodes():
+    return [node for path in files() for node in nodes(path)]
+
+
+def class_parts():
+    """The names of the methods, properties, class values and attributes of all classes."""
+    methods, properties, values, attributes = set(), set(), set(), set()
+    for owner in all_nodes():
+        for node in owner.body if isinstance(owner, ast.ClassDef) else ():
+            if isinstance(node, ast.FunctionDef):
+                decorated = any(ast.unparse(each) == "property" for each in node.decorator_list)
+                (properties if decorated else methods).add(node.name)
+            elif isinstance(node, ast.Assign):
+                values.update(target.id for target in node.targets)
+    for node in all_nodes():
+        if isinstance(node, ast.Attribute) and isinstance(node.ctx, ast.Store):
+            attributes.add(node.attr)
+    return methods, properties, values, attributes
 
 
 class LanguageTests(unittest.TestCase):
@@ -118,6 +168,70 @@ class LanguageTests(unittest.TestCase):
                 self.assertNotIsInstance(node, BARRED, (path, getattr(node, "lineno", None)))
                 for decorator in getattr(node, "decorator_list", []):
                     self.assertIn(ast.unparse(decorator).split(".")[-1], DECORATORS | {"setter"}, path)
+
+    def test_builtins(self):
+        for path in files():
+            for node in nodes(path):
+                if isinstance(node, ast.Name) and node.id in BUILTINS:
+                    self.assertIn(node.id, ALLOWED_BUILTINS, path)
+
+    def test_parts_of_classes(self):
+        methods, properties, values, attributes = class_parts()
+        for one, other in itertools.combinations((methods, properties, values, attributes), 2):
+            self.assertFalse(one & other)
+        self.assertFalse((properties | values | attributes) & METHODS)
+        for name in methods:
+            self.assertTrue(not name.startswith("__") or name in OPERATORS, name)
+        used = methods | properties | values | attributes | METHODS
+        for node in all_nodes():
+            if isinstance(node, ast.Attribute):
+                self.assertIn(node.attr, used)
+
+    def test_methods_that_are_called(self):
+        methods = class_parts()[0]
+        for node in all_nodes():
+            if isinstance(node, ast.Call) and isinstance(node.func, ast.Attribute):
+                self.assertIn(node.func.attr, methods | METHODS)
+                if node.func.attr in METHODS:
+                    self.assertFalse(node.keywords)
+
+    def test_operators_of_assignments_and_comparisons(self):
+        for node in all_nodes():
+            # There are operators whose rules bar most of these.
+            self.assertNotIsInstance(node, ast.AugAssign)
+            if isinstance(node, ast.Compare) and any(isinstance(each, (ast.Is, ast.IsNot)) for each in node.ops):
+                self.assertIs(node.comparators[0].value, None)
+
+    def test_errors_are_created_where_they_are_raised(self):
+        for node in all_nodes():
+            if isinstance(node, ast.Raise) and node.exc is not None:
+                self.assertIsInstance(node.exc, ast.Call)
+            if isinstance(node, ast.ExceptHandler):
+                self.assertEqual(ast.unparse(node.type), "BarclipsError")
+
+    def test_generators_are_iterated_at_once(self):
+        names = {
+            owner.name for owner in all_nodes() if isinstance(owner, ast.FunctionDef)
+            and any(isinstance(node, (ast.Yield, ast.YieldFrom)) for node in ast.walk(owner))
+        }
+        self.assertEqual(names, {"walk"})
+        iterated = [node.iter for node in all_nodes() if isinstance(node, (ast.For, ast.comprehension))]
+        for node in all_nodes():
+            if isinstance(node, ast.Call) and ast.unparse(node.func) in names:
+                self.assertIn(node, iterated)
+
+    def test_barred_words(self):
+        for path in files():
+            for node in nodes(path):
+                words = []
+                if isinstance(node, ast.Name):
+                    words = [node.id]
+                elif isinstance(node, ast.Constant) and isinstance(node.value, str):
+                    words = node.value.split()
+                if node not in docstrings(path):
+                    self.assertFalse(set(words) & BARRED_WORDS, path)
+            for word in ("(type)", "Meta", "metaclass="):
+                self.assertNotIn(word, path.read_text(encoding="utf-8"))
 
     def test_strings(self):
         for path in files():

@@ -13,7 +13,8 @@ from barclips.waits import Wait, longest, worst
 from barclips.ways import ways
 from tests.helpers import FAR, GridTests, state
 from tests.scenes import (
-    Bars, bare, bars_of, clip, coprime, drawn, duo, huge, ladder, lead, limits, quiet, rings, single, stages, turns, uneven,
+    Bars, bare, bars_of, clip, coprime, drawn, duo, huge, ladder, lead, limits, quiet, rings, single, stages, turns,
+    uneven,
 )
 from tests.slow_waits import AllSettings, SlowTree, greatest_bar
 
