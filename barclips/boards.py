@@ -127,10 +127,10 @@ class Board:
 
     def arm(self, name):
         """Arm an empty track."""
-        track = self.scene.find_track(name)
-        if not track.empty:
+        lane = self.lane_of(name)
+        if not self.scene.find_track(name).empty:
             raise NotEmpty(name)
-        self.lane_of(name).ready = True
+        lane.ready = True
 
     def advance(self, ticks):
         """Move on by so many ticks."""

@@ -202,6 +202,13 @@ class LanguageTests(unittest.TestCase):
             if isinstance(node, ast.Compare) and any(isinstance(each, (ast.Is, ast.IsNot)) for each in node.ops):
                 self.assertIs(node.comparators[0].value, None)
 
+    def test_attributes_are_assigned_through_a_local_name(self):
+        for path in files():
+            for node in nodes(path):
+                if isinstance(node, ast.Attribute) and not isinstance(node.ctx, ast.Load):
+                    self.assertIsInstance(node.value, ast.Name, (path, node.lineno))
+                    self.assertNotIn(node.value.id, defined(path) + list(imports(path)))
+
     def test_errors_are_created_where_they_are_raised(self):
         for node in all_nodes():
             if isinstance(node, ast.Raise) and node.exc is not None:
